@@ -1,0 +1,1 @@
+"""Homeward: keys near their own room."""
