@@ -32,14 +32,18 @@ def refuse_crowd(plan, keys):
 
 # The keys must fit, this one among them: then an empty room is met, on a line ahead of its end.
 def bring_in(plan, rooms, key):
+    came = []
     room = plan.home(key)
     while rooms[room] is not None:
-        if plan.goes_ahead(room, key, rooms[room]):
-            moved = rooms[room]
+        held = rooms[room]
+        if plan.goes_ahead(room, key, held):
+            came.append((key, room))
             rooms[room] = key
-            key = moved
+            key = held
         room = (room + 1) % plan.rooms
+    came.append((key, room))
     rooms[room] = key
+    return came
 
 
 def housed_rooms(plan, keys):
@@ -52,8 +56,7 @@ def housed_rooms(plan, keys):
 
 
 def rooms_passed(plan, key, room):
-    home = plan.home(key)
-    return [(home + step) % plan.rooms for step in range(plan.far(key, room))]
+    return plan.rooms_on(plan.home(key), plan.far(key, room))
 
 
 def passes_on(plan, keys):

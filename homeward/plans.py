@@ -59,6 +59,10 @@ class Plan:
     def is_room(self, thing):
         return is_whole_within(thing, 0, self.rooms - 1)
 
+    # On a line none is asked for behind the last room, so only a ring goes round here.
+    def rooms_on(self, first, many):
+        return [(first + step) % self.rooms for step in range(many)]
+
     def home(self, key):
         if not is_number(key):
             raise Wrong(0)

@@ -4,9 +4,12 @@ The second saying goes the long way (walking room by room, trying every housing)
 shares no step with the package.
 """
 
-from itertools import permutations
+from functools import cache
+from itertools import combinations, permutations
 
 from homeward.errors import HomeError, Wrong
+from homeward.plans import Plan
+from homeward.rows import Row
 
 MOST = 10 ** 18
 
@@ -34,6 +37,35 @@ NO_NUMBERS = [
     None, True, False, "", "3", b"3", (), (3,), [], [3], {}, {3: 3}, set(), frozenset([3]), object(), Stranger(),
     int, len, Exception(), ring_in_itself(), -1, -MOST, MOST + 1, 10 ** 5000, -(10 ** 5000),
 ]
+NO_PLANS = [None, True, 0, 5, "plan", (), (5, True, []), [], [5, True, []], {}, object(), Stranger(), Plan]
+NO_KEY_LISTS = [
+    None, True, 0, 3, "", "12", (), (1, 2), {}, {1: 1}, {1, 2}, range(3), object(), Stranger(), list, ring_in_itself(),
+    [1, 1], [1, 2, 1], [0, MOST, 0], [[]], [[1]], [(1,)], [1, [1]],
+]
+NO_ROWS = NO_PLANS[:-1] + [Plan(5, True, []), [None] * 5, Plan, Row, ring_in_itself()]
+
+
+def small_plans():
+    return [
+        Plan(rooms, wraps, homes)
+        for rooms in (1, 2, 3, 4, 5) for wraps in (True, False)
+        for homes in ([], [(0, 1), (4, 4), (9, 3)], [(key, rooms - 1) for key in range(10)])
+    ]
+
+
+def small_key_lists(plan):
+    """All lists of up to one key more than there are rooms, of a few keys whose homes clash."""
+    few = [0, 1, 4, 5, 8, 9]
+    return [list(keys) for many in range(min(plan.rooms + 1, len(few)) + 1) for keys in combinations(few, many)]
+
+
+def numbers_from(seed, many, most):
+    """So many numbers below most, mixed up, but the same ones each time."""
+    numbers = []
+    for step in range(many):
+        seed = (seed * 1103515245 + 12345) % 2 ** 31
+        numbers.append(seed // 65536 % most)
+    return numbers
 
 
 def told(call, *things):
@@ -107,6 +139,70 @@ def is_kept(rooms, wraps, homes, housing):
         if ahead is None or not walked_ahead(rooms, wraps, homes, (room - 1) % rooms, ahead, key):
             return False
     return some_at_home or None in housing or not wraps
+
+
+def only_kept(plan, keys):
+    """The one kept housing among all housings there are, or None where the keys have none."""
+    found = all_housings(plan.rooms, plan.wraps, plan.homes, keys)
+    kept = [housing for housing in found if is_kept(plan.rooms, plan.wraps, plan.homes, housing)]
+    assert len(kept) == min(len(found), 1)
+    return kept[0] if kept else None
+
+
+@cache
+def small_housings():
+    """Each small plan with each list of small_key_lists that has a housing there, and its kept one."""
+    return [
+        (plan, keys, housing)
+        for plan in small_plans() for keys in small_key_lists(plan)
+        for housing in [only_kept(plan, keys)] if housing is not None
+    ]
+
+
+def large_rows():
+    """Rows of many rooms, from empty to full, whose keys come one by one."""
+    rows = []
+    for rooms in (7, 16, 33, 64):
+        for wraps in (True, False):
+            for seed, most in ((1, 1000), (2, rooms), (3, 5)):
+                homes = [(key, 3 * key) for key in numbers_from(seed, 20, most)[::4]]
+                row = Row(Plan(rooms, wraps, list(dict(homes).items())))
+                rows.append(row.copied())
+                for step, key in enumerate(numbers_from(seed + rooms, 90, most * 7)):
+                    told(row.put, key)
+                    if step % 15 == 0:
+                        rows.append(row.copied())
+                rows.append(row)
+    return rows
+
+
+def walked_put(plan, housing, key):
+    """Point 19 word by word: who came to which room, and the housing then. The keys must fit."""
+    housing, came = list(housing), []
+    room = walked_home(plan.rooms, plan.homes, key)
+    while key is not None:
+        there = housing[room]
+        if there is None or walked_ahead(plan.rooms, plan.wraps, plan.homes, room, key, there):
+            housing[room], key = key, there
+            came.append((housing[room], room))
+        room = room + 1 if room + 1 < plan.rooms else 0
+    return came, housing
+
+
+def walked_take(plan, housing, key):
+    """Point 20 word by word: the room, who was drawn back to which room, and the housing then."""
+    housing, came = list(housing), []
+    room = hole = housing.index(key)
+    housing[hole] = None
+    while hole + 1 < plan.rooms or plan.wraps:
+        behind = (hole + 1) % plan.rooms
+        there = housing[behind]
+        if there is None or walked_home(plan.rooms, plan.homes, there) == behind:
+            break
+        housing[hole], housing[behind] = there, None
+        came.append((there, hole))
+        hole = behind
+    return room, came, housing
 
 
 def passed_in(rooms, wraps, homes, housing):

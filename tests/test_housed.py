@@ -1,7 +1,7 @@
 """Points 3 to 6 and 15 to 17: keys that fit and crowds, the one kept housing, how many pass on."""
 
 import unittest
-from itertools import combinations, permutations
+from itertools import permutations
 
 from homeward.errors import NoRoom
 from homeward.faults import fault_of
@@ -9,29 +9,11 @@ from homeward.housed import housed_rooms, is_crowd, passes_on
 from homeward.plans import Plan
 
 from tests.helpers import (
-    MOST, NO_NUMBERS, Stranger, all_housings, is_crowd_there, is_kept, passed_in, refused_wrong, ring_in_itself, told,
+    MOST, NO_KEY_LISTS, NO_NUMBERS, NO_PLANS, all_housings, is_crowd_there, is_kept, passed_in, refused_wrong,
+    small_key_lists, small_plans, told,
 )
 
-NO_PLANS = [None, True, 0, 5, "plan", (), (5, True, []), [], [5, True, []], {}, object(), Stranger(), Plan]
-NO_KEY_LISTS = [
-    None, True, 0, 3, "", "12", (), (1, 2), {}, {1: 1}, {1, 2}, range(3), object(), Stranger(), list, ring_in_itself(),
-    [1, 1], [1, 2, 1], [0, MOST, 0], [[]], [[1]], [(1,)], [1, [1]],
-]
 EXAMPLE = Plan(5, True, [])
-
-
-def small_plans():
-    return [
-        Plan(rooms, wraps, homes)
-        for rooms in (1, 2, 3, 4, 5) for wraps in (True, False)
-        for homes in ([], [(0, 1), (4, 4), (9, 3)], [(key, rooms - 1) for key in range(10)])
-    ]
-
-
-def small_key_lists(plan):
-    """All lists of up to one key more than there are rooms, of a few keys whose homes clash."""
-    few = [0, 1, 4, 5, 8, 9]
-    return [list(keys) for many in range(min(plan.rooms + 1, len(few)) + 1) for keys in combinations(few, many)]
 
 
 def refused_no_room(test, plan, keys):
