@@ -1,9 +1,8 @@
 """Growing: rows of another number of rooms, and a row that grows and shrinks by itself."""
 
 from homeward.errors import There, Wrong
-from homeward.housed import housed_rooms
 from homeward.plans import MOST_ROOMS, Plan, is_home_list, is_whole_within
-from homeward.rows import Row
+from homeward.rows import Row, row_of_keys
 
 LEAST_ROOMS = 4
 
@@ -13,10 +12,7 @@ def row_sized(row, rooms):
         raise Wrong(0)
     if not is_whole_within(rooms, 1, MOST_ROOMS):
         raise Wrong(1)
-    # Not the field homes, which anyone can get hold of.
-    homes = list(row.plan.home_numbers.items())
-    plan = Plan(rooms, row.plan.wraps, homes)
-    return Row(plan, housed_rooms(plan, row.keys_held()))
+    return row_of_keys(Plan(rooms, row.plan.wraps, row.plan.homes_told()), row.keys_held())
 
 
 class Growing:

@@ -24,10 +24,17 @@ def is_crowd(plan, keys, room):
     return are_crowd(plan, keys, room)
 
 
-def refuse_crowd(plan, keys):
+def crowded_room(plan, keys):
     for room in range(plan.rooms):
         if are_crowd(plan, keys, room):
-            raise NoRoom(room)
+            return room
+    return None
+
+
+def refuse_crowd(plan, keys):
+    room = crowded_room(plan, keys)
+    if room is not None:
+        raise NoRoom(room)
 
 
 # The keys must fit, this one among them: then an empty room is met, on a line ahead of its end.
@@ -46,13 +53,18 @@ def bring_in(plan, rooms, key):
     return came
 
 
-def housed_rooms(plan, keys):
-    refuse_wrong(plan, keys)
+# Of however many keys: those of two rows can be more than a list of keys holds.
+def house_all(plan, keys):
     refuse_crowd(plan, keys)
     rooms = [None] * plan.rooms
     for key in keys:
         bring_in(plan, rooms, key)
     return rooms
+
+
+def housed_rooms(plan, keys):
+    refuse_wrong(plan, keys)
+    return house_all(plan, keys)
 
 
 def rooms_passed(plan, key, room):

@@ -56,6 +56,9 @@ class Plan:
         # Kept beside the field homes, which anyone can get hold of: no key moves house by what is done to that list.
         self.home_numbers = dict(homes)
 
+    def homes_told(self):
+        return list(self.home_numbers.items())
+
     def is_room(self, thing):
         return is_whole_within(thing, 0, self.rooms - 1)
 

@@ -2,7 +2,7 @@
 
 from homeward.errors import NotThere, There, Unkept, Wrong
 from homeward.faults import fault_of
-from homeward.housed import bring_in, refuse_crowd
+from homeward.housed import bring_in, house_all, refuse_crowd
 from homeward.plans import Plan, is_number
 
 
@@ -91,6 +91,10 @@ class Row:
         other = Row(self.plan, self.held)
         other.done = self.deeds()
         return other
+
+
+def row_of_keys(plan, keys):
+    return Row(plan, house_all(plan, keys))
 
 
 def refuse_wrong_row_or_key(row, key):

@@ -37,14 +37,18 @@ def window_rooms(plan, window):
     return plan.rooms_on(window[0], (window[1] - window[0]) % plan.rooms + 1)
 
 
+def is_far_shown(plan, keys, far, window):
+    rooms = window_rooms(plan, window)
+    return len([key for key in keys if plan.home(key) in rooms]) >= len(rooms) + far
+
+
 def shows_far(plan, keys, far, window):
     refuse_wrong(plan, keys)
     if not is_whole_within(far, 0, MOST_FAR):
         raise Wrong(2)
     if not is_window(plan, window):
         raise Wrong(3)
-    rooms = window_rooms(plan, window)
-    return len([key for key in keys if plan.home(key) in rooms]) >= len(rooms) + far
+    return is_far_shown(plan, keys, far, window)
 
 
 # From the first key at home, at the asked key's home or ahead of it, up to that home: all that stand from there

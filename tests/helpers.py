@@ -4,6 +4,7 @@ The second saying goes the long way (walking room by room, trying every housing)
 shares no step with the package.
 """
 
+import re
 from functools import cache
 from itertools import combinations, permutations
 
@@ -43,6 +44,12 @@ NO_KEY_LISTS = [
     [1, 1], [1, 2, 1], [0, MOST, 0], [[]], [[1]], [(1,)], [1, [1]],
 ]
 NO_ROWS = NO_PLANS[:-1] + [Plan(5, True, []), [None] * 5, Plan, Row, ring_in_itself()]
+# What is no number in figures from 0 to 10 ** 18, though it has much of one.
+NO_FIGURES = [
+    "", "-", "--", "00", "01", "007", "+1", "-1", "-0", "+0", "1_0", "1.0", "1e1", "0x1", "1,0", "1-", "x", "1x", "one",
+    "\t1", "1\t", "\t", "None", "True", "row", "home", "1000000000000000001", "1000000000000000010",
+    "9999999999999999999", "10000000000000000000", "1" + "0" * 30, "0" * 5000, "9" * 5000, "1" * 100000,
+]
 
 
 def small_plans():
@@ -82,6 +89,13 @@ def refused_wrong(test, at, call, *things):
     test.assertEqual(caught.exception.at, at)
     test.assertIs(type(caught.exception), Wrong)
     test.assertIs(type(caught.exception.at), int)
+
+
+def is_figures(word, most=str(MOST)):
+    """Point 43 and 2 by the signs alone."""
+    if re.fullmatch("0|[1-9][0-9]*", word) is None:
+        return False
+    return (len(word), word) <= (len(most), most)
 
 
 def walked_home(rooms, homes, key):
@@ -159,6 +173,13 @@ def small_housings():
     ]
 
 
+def row_of(plan, keys):
+    row = Row(plan)
+    for key in keys:
+        row.put(key)
+    return row
+
+
 def large_rows():
     """Rows of many rooms, from empty to full, whose keys come one by one."""
     rows = []
@@ -205,6 +226,26 @@ def walked_take(plan, housing, key):
     return room, came, housing
 
 
+def walked_way(plan, key):
+    """All rooms from the key's home on, in their order."""
+    home = walked_home(plan.rooms, plan.homes, key)
+    rooms = list(range(plan.rooms))
+    return rooms[home:] + (rooms[:home] if plan.wraps else [])
+
+
+def walked_look(plan, housing, key):
+    """Point 23 word by word."""
+    seen = []
+    for room in walked_way(plan, key):
+        held = housing[room]
+        seen.append((room, held))
+        if held is not None and held == key:
+            return (room, seen)
+        if held is None or walked_ahead(plan.rooms, plan.wraps, plan.homes, room, key, held):
+            return (None, seen)
+    return (None, seen)
+
+
 def passed_in(rooms, wraps, homes, housing):
     """How many pass on from each room of a housing (point 16)."""
     passes = [0] * rooms
@@ -225,3 +266,70 @@ def is_crowd_there(rooms, wraps, homes, keys, room):
         for place in range(room, rooms):
             count += walked_home(rooms, homes, key) == place
     return count > len(range(room, rooms))
+
+
+def all_windows(plan):
+    return [
+        (first, last) for first in range(plan.rooms) for last in range(plan.rooms) if plan.wraps or first <= last
+    ]
+
+
+def rooms_within(plan, window):
+    """Point 27, walked from the first room to the last one."""
+    rooms = [window[0]]
+    while rooms[-1] != window[1]:
+        rooms.append(rooms[-1] + 1 if rooms[-1] + 1 < plan.rooms else 0)
+    return rooms
+
+
+def most_shown(plan, keys, window):
+    """The greatest far that a window shows of the keys, counted home by home; below 0 where it shows none."""
+    rooms = rooms_within(plan, window)
+    return len([key for key in keys if walked_home(plan.rooms, plan.homes, key) in rooms]) - len(rooms)
+
+
+def fars_in(plan, housing):
+    return [
+        walked_far(plan.rooms, plan.wraps, plan.homes, key, room)
+        for room, key in enumerate(housing) if key is not None
+    ]
+
+
+def counts_of(plan, keys):
+    """Of each room how many of the keys have their home there."""
+    counts = [0] * plan.rooms
+    numbers = dict(plan.homes)
+    for key in keys:
+        counts[numbers.get(key, key) % plan.rooms] += 1
+    return counts
+
+
+def greatest_shown(plan, keys):
+    """The greatest far that a window shows, counted room by room; below 0 where none shows any."""
+    counts = counts_of(plan, keys)
+    greatest = -1
+    for first in range(plan.rooms):
+        many = 0
+        for step in range(plan.rooms if plan.wraps else plan.rooms - first):
+            many += counts[(first + step) % plan.rooms] - 1
+            greatest = max(greatest, many)
+    return greatest
+
+
+def crowd_rooms(plan, keys):
+    if plan.wraps:
+        return [0] if len(keys) > plan.rooms else []
+    counts = counts_of(plan, keys)
+    return [room for room in range(plan.rooms) if sum(counts[room:]) > plan.rooms - room]
+
+
+def counted_do(plan, keys, most):
+    """Point 34 by 29 and 30: a kept housing's farthest is as far as some window shows, and no farther."""
+    return crowd_rooms(plan, keys) == [] and greatest_shown(plan, keys) <= most
+
+
+def first_that_does(keys, homes, wraps, most):
+    for rooms in range(1, 65):
+        if counted_do(Plan(rooms, wraps, homes), keys, most):
+            return rooms
+    return None

@@ -166,6 +166,11 @@ class Statements(unittest.TestCase):
         for name, node in all_nodes(ast.Try):
             self.assertEqual(node.finalbody, [], f"L6 {name} {node.lineno}")
 
+    def test_l7_plain_names_in_f_strings(self):
+        for name, node in all_nodes(ast.FormattedValue):
+            self.assertIsInstance(node.value, ast.Name, f"L7 {name} {node.lineno}")
+            self.assertIsNone(node.format_spec, f"L7 {name} {node.lineno}")
+
     def test_l7_one_walk_in_a_comprehension(self):
         for name, node in all_nodes(ast.ListComp):
             self.assertEqual(len(node.generators), 1, f"L7 {name} {node.lineno}")

@@ -9,33 +9,13 @@ from homeward.rows import Row
 
 from tests.helpers import (
     MOST, NO_NUMBERS, NO_ROWS, Stranger, large_rows, refused_wrong, ring_in_itself, small_housings, small_plans,
-    walked_ahead, walked_far, walked_home,
+    walked_ahead, walked_far, walked_look, walked_way,
 )
 
 RING = Plan(5, True, [])
 LINE = Plan(5, False, [])
 EXAMPLE = Row(RING, [13, 4, None, 3, 8])
 SOME_KEYS = [0, 1, 2, 3, 4, 5, 8, 9, 13, MOST]
-
-
-def walked_way(plan, key):
-    """All rooms from the key's home on, in their order."""
-    home = walked_home(plan.rooms, plan.homes, key)
-    rooms = list(range(plan.rooms))
-    return rooms[home:] + (rooms[:home] if plan.wraps else [])
-
-
-def walked_look(plan, housing, key):
-    """Point 23 word by word."""
-    seen = []
-    for room in walked_way(plan, key):
-        held = housing[room]
-        seen.append((room, held))
-        if held is not None and held == key:
-            return (room, seen)
-        if held is None or walked_ahead(plan.rooms, plan.wraps, plan.homes, room, key, held):
-            return (None, seen)
-    return (None, seen)
 
 
 def walked_gone(plan, key, seen):

@@ -11,7 +11,7 @@ from homeward.rows import Row
 
 from tests.helpers import (
     MOST, NO_NUMBERS, NO_PLANS, Stranger, is_crowd_there, is_kept, large_rows, numbers_from, only_kept, refused_wrong,
-    ring_in_itself, small_housings, told, walked_home, walked_put, walked_take,
+    ring_in_itself, row_of, small_housings, told, walked_home, walked_put, walked_take,
 )
 
 RING = Plan(5, True, [])
@@ -30,13 +30,6 @@ FAULTS = [
 
 def state_of(row):
     return (row.plan, row.rooms_held(), row.keys_held(), row.many(), row.deeds())
-
-
-def row_of(plan, keys):
-    row = Row(plan)
-    for key in keys:
-        row.put(key)
-    return row
 
 
 def refused_unkept(test, plan, rooms, word, room):

@@ -9,40 +9,13 @@ from homeward.rows import Row
 from homeward.spread import far_sum, farthest, fars_of, shows_far, window_of
 
 from tests.helpers import (
-    MOST, NO_KEY_LISTS, NO_NUMBERS, NO_PLANS, NO_ROWS, Stranger, all_housings, large_rows, refused_wrong, ring_in_itself,
-    small_housings, small_key_lists, small_plans, told, walked_far, walked_home,
+    MOST, NO_KEY_LISTS, NO_NUMBERS, NO_PLANS, NO_ROWS, Stranger, all_housings, all_windows, fars_in, large_rows,
+    most_shown, refused_wrong, ring_in_itself, small_housings, small_key_lists, small_plans, told, walked_far,
 )
 
 RING = Plan(5, True, [])
 LINE = Plan(5, False, [])
 EXAMPLE = Row(RING, [13, 4, None, 3, 8])
-
-
-def all_windows(plan):
-    return [
-        (first, last) for first in range(plan.rooms) for last in range(plan.rooms) if plan.wraps or first <= last
-    ]
-
-
-def rooms_within(plan, window):
-    """Point 27, walked from the first room to the last one."""
-    rooms = [window[0]]
-    while rooms[-1] != window[1]:
-        rooms.append(rooms[-1] + 1 if rooms[-1] + 1 < plan.rooms else 0)
-    return rooms
-
-
-def most_shown(plan, keys, window):
-    """The greatest far that a window shows of the keys, counted home by home; below 0 where it shows none."""
-    rooms = rooms_within(plan, window)
-    return len([key for key in keys if walked_home(plan.rooms, plan.homes, key) in rooms]) - len(rooms)
-
-
-def fars_in(plan, housing):
-    return [
-        walked_far(plan.rooms, plan.wraps, plan.homes, key, room)
-        for room, key in enumerate(housing) if key is not None
-    ]
 
 
 class Fars(unittest.TestCase):
